@@ -1,0 +1,1 @@
+"""Standsfor: whether a class can stand for another one in every program."""

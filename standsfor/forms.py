@@ -48,6 +48,7 @@ class Place:
     """Where an outermost block stands: what its text may name."""
 
     def __init__(self, new_classes, own_fields, in_method, has_parent):
+        # None if new things may be of any class.
         self.new_classes = new_classes
         self.own_fields = own_fields
         self.in_method = in_method
@@ -90,7 +91,7 @@ def _is_leaf(kind, part, place):
         return False
     if kind == "field":
         return part in place.own_fields
-    return kind == "name" or part in place.new_classes
+    return kind == "name" or place.new_classes is None or part in place.new_classes
 
 
 def _statements(block, spot):

@@ -1,13 +1,11 @@
 """Programs: some classes and a body."""
 
+from standsfor.classes import bad_method, copied_class, is_class_form
 from standsfor.errors import BadName, BadProgram
-from standsfor.forms import MOST_PARAMS, Place, is_block
-from standsfor.names import is_name, is_name_dict, is_names
+from standsfor.forms import Place, is_block
+from standsfor.names import is_name, is_name_dict
 
 MOST_CLASSES = 8
-MOST_FIELDS = 3
-MOST_WORDS = 4
-MOST_METHODS = 5
 
 
 class Program:
@@ -39,10 +37,7 @@ def with_class(program, name, cls):
 
 
 def _copied_classes(classes):
-    return {
-        name: (parent, mark, dict(fields), dict(methods))
-        for name, (parent, mark, fields, methods) in classes.items()
-    }
+    return {name: copied_class(cls) for name, cls in classes.items()}
 
 
 def _wrong_part(classes, body):
@@ -50,11 +45,9 @@ def _wrong_part(classes, body):
     if not _is_classes(classes):
         return "classes"
     for name in sorted(classes):
-        parent, _, fields, methods = classes[name]
-        place = Place(classes, fields, True, parent is not None)
-        for method in sorted(methods):
-            if not is_block(methods[method][1], place):
-                return f"{name}.{method}"
+        method = bad_method(classes[name], classes)
+        if method is not None:
+            return f"{name}.{method}"
     return None if is_block(body, Place(classes, {}, False, False)) else "body"
 
 
@@ -62,34 +55,9 @@ def _is_classes(thing):
     """Whether it is a dict of classes, the blocks of their methods aside."""
     if not is_name_dict(thing, MOST_CLASSES):
         return False
-    if not all([_is_class(cls) for cls in thing.values()]):
+    if not all([is_class_form(cls) for cls in thing.values()]):
         return False
     return all([_has_parent_among(cls, thing) for cls in thing.values()]) and not _has_ring(thing)
-
-
-def _is_class(thing):
-    if not isinstance(thing, tuple) or len(thing) != 4:
-        return False
-    parent, mark, fields, methods = thing
-    if parent is not None and not is_name(parent):
-        return False
-    return mark in ("open", "closed") and _is_fields(fields) and _is_methods(methods)
-
-
-def _is_fields(thing):
-    if not is_name_dict(thing, MOST_FIELDS):
-        return False
-    return all([is_names(words, 1, MOST_WORDS) for words in thing.values()])
-
-
-def _is_methods(thing):
-    if not is_name_dict(thing, MOST_METHODS):
-        return False
-    return all([_is_method(method) for method in thing.values()])
-
-
-def _is_method(thing):
-    return isinstance(thing, tuple) and len(thing) == 2 and is_names(thing[0], 0, MOST_PARAMS)
 
 
 def _has_parent_among(cls, classes):

@@ -1,20 +1,18 @@
 """Runs of whole programs."""
 
-from standsfor.errors import BadNumber, BadProgram, TooLong
+from standsfor.checks import check_most
+from standsfor.errors import BadProgram, TooLong
 from standsfor.machine import Machine
-from standsfor.names import is_integer
 from standsfor.programs import Program
 
 MOST_CALLS = 200
-HIGHEST_MOST = 100000
 
 
 def run(program, *, most=20000):
     """The tuple (lines, end) of what the program prints and how it ends."""
     if not isinstance(program, Program):
         raise BadProgram("program")
-    if not is_integer(most) or not 1 <= most <= HIGHEST_MOST:
-        raise BadNumber(most)
+    check_most(most)
     machine = Machine(program)
     while machine.ending is None:
         if machine.steps == most:

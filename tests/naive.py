@@ -1,0 +1,128 @@
+"""Tables as the words of [19] and [20] tell them, straight and slow."""
+
+from standsfor.plain import methods_of, words_of
+from standsfor.standings import first_standing, standings
+from standsfor.within import Reading, after_answer, after_ask
+
+
+class Both:
+    def __init__(self, one, other):
+        self.readings = (Reading(one), Reading(other))
+        words = sorted(set(words_of(one) + words_of(other)))
+        self.incoming = [("word", word) for word in words] + [("none",), ("able",), ("unable",)]
+        self.methods = sorted(set(methods_of(one) + methods_of(other)))
+        self.first = (first_standing(one), first_standing(other))
+        self.known = {}
+
+    def asks(self, pair):
+        if pair not in self.known:
+            self.known[pair] = [self.after_ask(pair, method, (first, second)) for method in self.methods
+                                for first in self.incoming for second in self.incoming]
+        return self.known[pair]
+
+    def answers(self, frames, pair):
+        if (frames, pair) not in self.known:
+            self.known[(frames, pair)] = [self.after_answer(frames, pair, kind, value)
+                                          for kind in ("give", "throw") for value in self.incoming]
+        return self.known[(frames, pair)]
+
+    def after_ask(self, pair, method, things):
+        return self.joined([after_ask(reading, standing, method, things)
+                            for reading, standing in zip(self.readings, pair)])
+
+    def after_answer(self, frames, pair, kind, value):
+        return self.joined([after_answer(reading, standing, frame, kind, value)
+                            for reading, standing, frame in zip(self.readings, pair, frames)])
+
+    def joined(self, comes):
+        """The kind of what comes, the pair, and the frames."""
+        (event, standing, frame), (other_event, other_standing, other_frame) = comes
+        if event != other_event:
+            return ("unlike", None, None)
+        kind = "end" if event[0] in ("gives", "throws") else "wait"
+        assert (frame is None) == (other_frame is None) == (kind == "end")
+        return (kind, (standing, other_standing), (frame, other_frame))
+
+
+def least(one, other):
+    """The sets of all (begin, pair) and of all waits that come of the first pair, and whether all is alike."""
+    both = Both(one, other)
+    lists, waits, like = {(both.first, both.first)}, set(), True
+    while True:
+        ahead = (len(lists), len(waits))
+        for begin, pair in list(lists):
+            for kind, behind, frames in both.asks(pair):
+                like = like and kind != "unlike"
+                if kind == "end":
+                    lists.add((begin, behind))
+                elif kind == "wait":
+                    waits.add((*frames, behind, begin))
+        for one_frame, other_frame, pair, begin in list(waits):
+            lists.add((pair, pair))
+            for level, now in list(lists):
+                if level == pair:
+                    for kind, behind, frames in both.answers((one_frame, other_frame), now):
+                        like = like and kind != "unlike"
+                        if kind == "end":
+                            lists.add((begin, behind))
+                        elif kind == "wait":
+                            waits.add((*frames, behind, begin))
+        if ahead == (len(lists), len(waits)):
+            return lists, waits, like
+
+
+def is_closed(one, other, table):
+    """Whether a table, which has the form of one, is closed."""
+    both = Both(one, other)
+    levels, waits = table
+    if len({pair for pair, _ in levels}) != len(levels):
+        return False
+    held = dict(levels)
+    pairs = {(first, second) for first in standings(one) for second in standings(other)}
+    if both.first not in held or any(wait[2] not in held for wait in waits):
+        return False
+    if any(pair not in held[pair] or not pairs.issuperset([pair] + held[pair]) for pair in held):
+        return False
+    wanted = []
+    for begin in held:
+        for pair in held[begin]:
+            wanted += [(begin, come) for come in both.asks(pair)]
+    for one_frame, other_frame, pair, begin in waits:
+        # A frame that nothing asks for need not be one: then it is not closed anyway.
+        for now in held[pair]:
+            try:
+                wanted += [(begin, come) for come in both.answers((one_frame, other_frame), now)]
+            except (KeyError, IndexError, TypeError, ValueError):
+                return False
+    asked_for = set()
+    for begin, (kind, behind, frames) in wanted:
+        if kind == "unlike" or kind == "end" and behind not in held.get(begin, ()):
+            return False
+        if kind == "wait":
+            asked_for.add((*frames, behind, begin))
+    return asked_for == set(waits)
+
+
+def told_apart(one, other, most):
+    """A row of at most so many moves that tells them apart, the first found going breadth first, or None."""
+    both = Both(one, other)
+    moves = [("ask", method, first, second) for method in both.methods
+             for first in both.incoming for second in both.incoming]
+    moves += [(kind, value) for kind in ("give", "throw") for value in both.incoming]
+    rows = {(both.first, ()): ()}
+    for _ in range(most):
+        longer = {}
+        for (pair, waiting), row in rows.items():
+            for move in moves:
+                if move[0] == "ask":
+                    kind, behind, frames = both.after_ask(pair, move[1], move[2:])
+                elif waiting:
+                    kind, behind, frames = both.after_answer(waiting[-1], pair, *move)
+                else:
+                    continue
+                if kind == "unlike":
+                    return row + (move,)
+                rest = waiting if move[0] == "ask" else waiting[:-1]
+                longer.setdefault((behind, rest + (frames,) if kind == "wait" else rest), row + (move,))
+        rows = {key: row for key, row in longer.items() if key not in rows}
+    return None

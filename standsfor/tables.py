@@ -98,7 +98,7 @@ def _has_form_of_table(thing, ones, others):
 def _is_level(thing, known):
     if not isinstance(thing, tuple) or len(thing) != 2 or not isinstance(thing[1], list):
         return False
-    return all([_is_solid(pair, DEEPEST_WAIT) and pair in known for pair in [thing[0], *thing[1]]])
+    return all([_is_solid(pair, DEEPEST_WAIT) and pair in known for pair in [thing[0]] + thing[1]])
 
 
 def _is_wait(thing):

@@ -4,10 +4,9 @@ What comes of a move is a tuple (event, standing, frame): the standing behind
 it, and the frame that waits, or None if the method has ended.
 """
 
-from standsfor.blocks import blocks_of, statements_by_path
+from standsfor.blocks import statements_by_path
 
 NONE = ("none",)
-ME = ("me",)
 # What goes on behind a block that has ended by neither a return nor a raise.
 GOING_ON = ("on",)
 
@@ -195,7 +194,7 @@ class Doing:
     def _two_shown(self, things, work):
         """How the things of a call are shown; those that it lacks are none."""
         shown = [_shown(self._value(thing, work)) for thing in things]
-        return (*shown, NONE, NONE)[:2]
+        return (shown + [NONE, NONE])[:2]
 
     def _finish(self, work, value):
         """Does the statement at which the method stands with the value of its right side."""
@@ -251,7 +250,7 @@ def after_answer(reading, standing, frame, kind, value):
 
 
 def _next(path):
-    return (*path[:-1], path[-1] + 1)
+    return path[:-1] + (path[-1] + 1,)
 
 
 def _arrived(value, number):

@@ -4,7 +4,7 @@ What the surroundings are handed is printed; a value that they handed to the
 thing is printed as the name by which the body knows it.
 """
 
-from shorthand import ME, NONE, YES, ask, attempt, call, cls, cond, do, fn, let, loop, method, n, new, packed, parent
+from shorthand import NONE, YES, ask, attempt, call, cls, cond, do, fn, let, loop, method, n, new, packed, parent
 from shorthand import put, ret, same, say, show, throw, w
 from standsfor.programs import Program
 from standsfor.sessions import Session
@@ -111,11 +111,9 @@ class Row:
 
 
 def printed(program):
-    """The lines of its run, up to the one that tells that all moves are made."""
+    """The lines of its run, up to the one that tells that all moves are made, or up to its end."""
     session = Session(program)
     lines = []
-    while "over" not in lines:
-        if session.end() is not None:
-            raise AssertionError((session.end(), lines))
+    while "over" not in lines and session.end() is None:
         lines += session.step()
-    return lines[:lines.index("over")]
+    return lines

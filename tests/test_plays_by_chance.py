@@ -54,7 +54,8 @@ class Chance(unittest.TestCase):
             for kinds in (("word",), ("thing",), ("me", "word")):
                 row = Row(made, moves, kinds)
                 with self.subTest(seed):
-                    self.assertEqual(printed(row.program(("kk", "jj", "zz"))), row.lines(play.events()))
+                    told = row.lines(play.events())
+                    self.assertEqual(printed(row.program(("kk", "jj", "zz"))), told + ["over"])
         self.assertEqual(sorted(seen), ["asks", "calls", "gives", "throws"])
 
 

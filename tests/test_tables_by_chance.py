@@ -4,9 +4,11 @@ import unittest
 
 import naive
 from plainmaker import PlainMaker
+from rows import Row, printed
 from standsfor.errors import TooMany
 from standsfor.plain import words_of
-from standsfor.plays import played
+from standsfor.plays import Play, played
+from standsfor.programs import with_class
 from standsfor.tables import alike, alike_without_heirs, is_table, table
 
 MOST = 120
@@ -65,7 +67,30 @@ class Chance(unittest.TestCase):
         events, others = played(one, words, row), played(other, words, row)
         self.assertEqual(events[:-1], others[:-1])
         self.assertNotEqual(events[-1], others[-1])
+        lines = [printed(program) for program in self.programs(one, other, row)]
+        self.assertNotEqual(lines[0], lines[1])
         return True
+
+    def programs(self, one, other, moves):
+        """A program that makes the moves to the one, and the same with the other in its place."""
+        program = Row(one, moves, ("word",)).program(("kk", "jj", "zz"))
+        return program, with_class(program, "box", other)
+
+    def test_programs_with_the_other_in_the_place_of_the_one(self):
+        for maker, one, other in self.pairs(range(4000, 4200)):
+            try:
+                told = alike(one, other, most=MOST)
+            except TooMany:
+                continue
+            words = sorted(set(words_of(one) + words_of(other)))
+            for _ in range(3):
+                play, moves = Play(one, words), []
+                for _ in range(10):
+                    moves.append(maker.move(words, len(play.frames()), sorted(one[3])))
+                    play.move(moves[-1])
+                lines = [printed(program) for program in self.programs(one, other, moves)]
+                with self.subTest((one, other, moves)):
+                    self.assertTrue(not told or lines[0] == lines[1])
 
     def test_tables_that_are_changed(self):
         seen = {True: 0, False: 0}

@@ -105,7 +105,7 @@ def _form_parts(kind, part, spot, place):
     deep, returns, tests = spot
     if kind == "test":
         tests += 1
-    form = _form(kind, part)
+    form = form_of(kind, part)
     if form is None or len(part) != 1 + len(form) or tests > MOST_TESTS:
         return None
     if not _may_stand(part[0], returns, place):
@@ -113,7 +113,8 @@ def _form_parts(kind, part, spot, place):
     return [(inner, thing, (deep, returns, tests)) for inner, thing in zip(form, part[1:])]
 
 
-def _form(kind, part):
+def form_of(kind, part):
+    """The kinds of what stands behind the first word of a tuple; None if that is none of this kind."""
     if len(part) == 0 or not isinstance(part[0], str):
         return None
     if kind == "statement":

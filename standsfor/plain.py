@@ -25,7 +25,7 @@ def unplain(cls):
     wrong = _wrong_statements(_statements(cls))
     if wrong is not None:
         return wrong
-    asked = _asked_by_method(methods)
+    asked = asked_by_method(methods)
     if _has_ring(asked):
         return "ring"
     if len(set([name for names in asked.values() for name in names])) > MOST_ASKED:
@@ -96,7 +96,7 @@ def _is_plain_same(one, other):
     return one[0] in ("word", "field") or other[0] in ("word", "field")
 
 
-def _asked_by_method(methods):
+def asked_by_method(methods):
     """For each method the names of those that it asks of me."""
     asked = {}
     for method, (_, block) in methods.items():

@@ -1,6 +1,8 @@
-"""Two classes side by side, and what all moves bring of both.
+"""Classes, alone or two side by side, and what all moves bring of them.
 
-Frames are told by their numbers, from 0 on, in the order in which they came up.
+What moves bring is told as a tuple (goal, ends, waits): a move that brings the
+event that is looked for, or None; and the states at which the methods have
+ended and the waits with which they wait, each with a move that brings it.
 """
 
 from standsfor.moves import incoming_values
@@ -10,14 +12,17 @@ from standsfor.within import NONE, Reading, after_answer, after_ask
 
 
 class Side:
-    """One of the two classes, with what was found out of it."""
+    """One class, with what was found out of it.
+
+    Frames are told by their numbers, from 0 on, in the order in which they came up.
+    """
 
     def __init__(self, cls, asks, answers):
         self.first = first_standing(cls)
+        self.reading = Reading(cls)
         # The frames by their numbers.
         self.known = []
         self._numbers = {}
-        self._reading = Reading(cls)
         self._asks = asks
         self._answers = answers
         self._asked = {}
@@ -34,8 +39,8 @@ class Side:
         """What comes of each ask at this standing, in the order of the asks."""
         if standing not in self._asked:
             self._asked[standing] = [
-                self._numbered(after_ask(self._reading, standing, method, things))
-                for method, things in self._asks
+                self._numbered(after_ask(self.reading, standing, method, (first, second)))
+                for _, method, first, second in self._asks
             ]
         return self._asked[standing]
 
@@ -45,7 +50,7 @@ class Side:
         if key not in self._answered:
             frame = self.known[number]
             self._answered[key] = [
-                self._numbered(after_answer(self._reading, standing, frame, kind, value))
+                self._numbered(after_answer(self.reading, standing, frame, kind, value))
                 for kind, value in self._answers
             ]
         return self._answered[key]
@@ -56,62 +61,67 @@ class Side:
 
 
 class Sides:
-    """Both classes.
+    """Two classes side by side; unlike events are looked for, and nothing goes on behind them.
 
-    What moves bring is told as a tuple (unlike, ends, waits): whether an event
-    is unlike, the list of the pairs at which both methods have ended, and the
-    list of the tuples (frame, frame, pair) with which both wait.
+    Their states are pairs, and their waits tuples (frame, frame, pair).
     """
 
     def __init__(self, one, other):
-        incoming = incoming_values(sorted(set(words_of(one) + words_of(other))))
-        asks = _asks(one, other, incoming)
-        answers = [(kind, value) for kind in ("give", "throw") for value in incoming]
-        self.one = Side(one, asks, answers)
-        self.other = Side(other, asks, answers)
+        words = sorted(set(words_of(one) + words_of(other)))
+        self._asks = all_asks([one, other], words)
+        self._answers = all_answers(words)
+        self.one = Side(one, self._asks, self._answers)
+        self.other = self.one if one == other else Side(other, self._asks, self._answers)
         self._asked = {}
 
-    def first_pair(self):
+    def first_state(self):
         """The pair of the first standings."""
         return (self.one.first, self.other.first)
 
     def asked(self, pair):
         """What all asks bring."""
         if pair not in self._asked:
-            self._asked[pair] = _joined(self.one.asked(pair[0]), self.other.asked(pair[1]))
+            self._asked[pair] = _joined(self._asks, self.one.asked(pair[0]), self.other.asked(pair[1]))
         return self._asked[pair]
 
-    def answered(self, one, other, pair):
-        """What all gives and throws to the two frames bring."""
-        return _joined(self.one.answered(one, pair[0]), self.other.answered(other, pair[1]))
+    def answered(self, wait, pair):
+        """What all gives and throws to the frames of the wait bring."""
+        ones = self.one.answered(wait[0], pair[0])
+        return _joined(self._answers, ones, self.other.answered(wait[1], pair[1]))
 
 
-def _asks(one, other, incoming):
-    """The list of all asks, as tuples (method, things)."""
+def all_asks(classes, words):
+    """The list of all asks, with these words, for the methods that one of the classes has."""
+    incoming = incoming_values(words)
     found = []
-    for method in sorted(set(methods_of(one) + methods_of(other))):
-        many = max(_many_params(one, method), _many_params(other, method))
+    for method in sorted(set([method for cls in classes for method in methods_of(cls)])):
+        many = max([_many_params(cls, method) for cls in classes])
         # What comes for no param is never seen again: one value stands for all.
         firsts = incoming if many > 0 else [NONE]
         seconds = incoming if many > 1 else [NONE]
-        found.extend([(method, (first, second)) for first in firsts for second in seconds])
+        found.extend([("ask", method, first, second) for first in firsts for second in seconds])
     return found
+
+
+def all_answers(words):
+    """The list of all gives and throws with these words."""
+    return [(kind, value) for kind in ("give", "throw") for value in incoming_values(words)]
 
 
 def _many_params(cls, method):
     return len(cls[3][method][0]) if method in cls[3] else 0
 
 
-def _joined(ones, others):
-    """What comes of both, if these come of the one and the other by the same moves."""
-    unlike = False
+def _joined(moves, ones, others):
+    """What the moves bring, if these come of the one and the other by them."""
+    unlike = None
     ends = {}
     waits = {}
-    for (event, standing, frame), (other_event, other_standing, other_frame) in zip(ones, others):
+    for move, (event, standing, frame), (other_event, other_standing, other_frame) in zip(moves, ones, others):
         if event != other_event:
-            unlike = True
+            unlike = move
         elif frame is None:
-            ends[(standing, other_standing)] = True
+            ends[(standing, other_standing)] = move
         else:
-            waits[(frame, other_frame, (standing, other_standing))] = True
-    return (unlike, list(ends), list(waits))
+            waits[(frame, other_frame, (standing, other_standing))] = move
+    return (unlike, ends, waits)

@@ -2,9 +2,9 @@
 
 from standsfor.checks import check_most, check_of_one_mark, check_plain
 from standsfor.errors import TooMany
-from standsfor.growth import Growth
-from standsfor.names import is_integer
+from standsfor.growth import Growth, grown
 from standsfor.sides import Sides
+from standsfor.solids import is_solid
 from standsfor.standings import standings
 
 # How deep the tuples of a wait are nested.
@@ -15,7 +15,7 @@ def alike(one, other, *, most=2000):
     """Whether either of two plain classes of one mark can stand for the other in every program."""
     check_of_one_mark(one, other)
     check_most(most)
-    return not _grown(Sides(one, other), most).is_unlike
+    return not grown(Sides(one, other), most).has_goal
 
 
 def alike_without_heirs(one, other, *, most=2000):
@@ -23,7 +23,7 @@ def alike_without_heirs(one, other, *, most=2000):
     check_plain(one)
     check_plain(other)
     check_most(most)
-    return not _grown(Sides(_closed(one), _closed(other)), most).is_unlike
+    return not grown(Sides(_closed(one), _closed(other)), most).has_goal
 
 
 def table(one, other, *, most=2000):
@@ -31,13 +31,13 @@ def table(one, other, *, most=2000):
     check_of_one_mark(one, other)
     check_most(most)
     sides = Sides(one, other)
-    growth = _grown(sides, most)
-    if growth.is_unlike:
+    growth = grown(sides, most)
+    if growth.has_goal:
         return None
-    levels = [(level.pair, list(level.pairs)) for level in growth.levels.values()]
+    levels = [(level.state, list(level.states)) for level in growth.levels.values()]
     waits = [
         (sides.one.known[frame], sides.other.known[other_frame], pair, begin)
-        for frame, other_frame, pair, begin in growth.all_waits()
+        for (frame, other_frame, pair), begin in growth.all_waits()
     ]
     return (levels, waits)
 
@@ -50,7 +50,7 @@ def is_table(one, other, thing):
     sides = Sides(one, other)
     levels = {pair: {held: True for held in pairs} for pair, pairs in thing[0]}
     waits = {_numbered(wait, sides): True for wait in thing[1]}
-    if len(levels) != len(thing[0]) or sides.first_pair() not in levels:
+    if len(levels) != len(thing[0]) or sides.first_state() not in levels:
         return False
     # If its levels are closed, nothing more comes of them than it has.
     growth = Growth(sides, sum([len(pairs) for pairs in levels.values()]), len(waits))
@@ -59,7 +59,7 @@ def is_table(one, other, thing):
         growth.grow()
     except TooMany:
         return False
-    if growth.is_unlike:
+    if growth.has_goal:
         return False
     asked_for = growth.all_waits()
     return len(asked_for) == len(waits) and all([wait in waits for wait in asked_for])
@@ -69,19 +69,11 @@ def _closed(cls):
     return (cls[0], "closed", cls[2], cls[3])
 
 
-def _grown(sides, most):
-    """All that comes of the first pair, as TooMany lets it."""
-    growth = Growth(sides, most, most)
-    growth.level_of(sides.first_pair())
-    growth.grow()
-    return growth
-
-
 def _give_levels(growth, levels):
     for pair, pairs in levels.items():
         level = growth.level_of(pair)
         for held in pairs:
-            growth.add_pair(level, held)
+            growth.add_state(level, held)
 
 
 def _has_form_of_table(thing, ones, others):
@@ -98,21 +90,13 @@ def _has_form_of_table(thing, ones, others):
 def _is_level(thing, known):
     if not isinstance(thing, tuple) or len(thing) != 2 or not isinstance(thing[1], list):
         return False
-    return all([_is_solid(pair, DEEPEST_WAIT) and pair in known for pair in [thing[0]] + thing[1]])
+    return all([is_solid(pair, DEEPEST_WAIT) and pair in known for pair in [thing[0]] + thing[1]])
 
 
 def _is_wait(thing):
-    return isinstance(thing, tuple) and len(thing) == 4 and _is_solid(thing, DEEPEST_WAIT)
-
-
-def _is_solid(thing, deep):
-    """Whether it is made of strings, integers and tuples, nested at most so many deep."""
-    # Flags are left out as they are equal to integers, and deep tuples as no key.
-    if isinstance(thing, tuple):
-        return deep > 0 and all([_is_solid(part, deep - 1) for part in thing])
-    return isinstance(thing, str) or is_integer(thing)
+    return isinstance(thing, tuple) and len(thing) == 4 and is_solid(thing, DEEPEST_WAIT)
 
 
 def _numbered(wait, sides):
     one, other, pair, begin = wait
-    return (sides.one.number_of(one), sides.other.number_of(other), pair, begin)
+    return ((sides.one.number_of(one), sides.other.number_of(other), pair), begin)

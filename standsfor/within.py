@@ -22,6 +22,8 @@ class Reading:
         self.words = dict(fields)
         self.params = {method: params for method, (params, _) in methods.items()}
         self.statements = {method: statements_by_path(block) for method, (_, block) in methods.items()}
+        # What fields were given by all that was done, as tuples (field, word).
+        self.given = {}
 
 
 class Work:
@@ -208,6 +210,7 @@ class Doing:
                 work.end_by(("raise", ("word", "badword")))
                 return
             self._words[self._reading.indexes[statement[1]]] = value[1]
+            self._reading.given[(statement[1], value[1])] = True
         elif kind in ("let", "set"):
             work.own_names[statement[1]] = value
         work.advance()

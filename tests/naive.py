@@ -126,3 +126,57 @@ def told_apart(one, other, most):
                 longer.setdefault((behind, rest + (frames,) if kind == "wait" else rest), row + (move,))
         rows = {key: row for key, row in longer.items() if key not in rows}
     return None
+
+
+class One:
+    """A class alone: what comes of its standings and frames, for merges."""
+
+    def __init__(self, cls):
+        lists, waits, like = least(cls, cls)
+        assert like and all(pair[0] == pair[1] for _, pair in lists) and all(wait[0] == wait[1] for wait in waits)
+        self.come_to = sorted({pair[0] for _, pair in lists})
+        self.waiting = {wait[0] for wait in waits}
+        self.both = Both(cls, cls)
+
+    def merge(self, pairs):
+        """All pairs of standings and of frames that come of these pairs, and whether all is alike."""
+        pairs = set(pairs) | {(standing, standing) for standing in self.come_to}
+        frames = {(frame, frame) for frame in self.waiting}
+        like = True
+        while True:
+            ahead = (len(pairs), len(frames))
+            for kind, behind, waiting in self.comes(pairs, frames):
+                like = like and kind != "unlike"
+                if kind != "unlike":
+                    pairs.add(behind)
+                if kind == "wait":
+                    frames.add(waiting)
+            if ahead == (len(pairs), len(frames)):
+                return pairs, frames, like
+
+    def comes(self, pairs, frames):
+        found = set()
+        for pair in pairs:
+            found.update(self.both.asks(pair))
+            for waiting in frames:
+                found.update(self.both.answers(waiting, pair))
+        return found
+
+    def is_closed(self, merge):
+        """Whether a merge, which has the form of one, is closed."""
+        pairs, frames = set(merge[0]), set(merge[1])
+        if not pairs.issuperset((standing, standing) for standing in self.come_to):
+            return False
+        if not frames.issuperset((frame, frame) for frame in self.waiting):
+            return False
+        asked_for = {(frame, frame) for frame in self.waiting}
+        try:
+            comes = self.comes(pairs, frames)
+        except (KeyError, IndexError, TypeError, ValueError):
+            return False
+        for kind, behind, waiting in comes:
+            if kind == "unlike" or behind not in pairs:
+                return False
+            if kind == "wait":
+                asked_for.add(waiting)
+        return asked_for == frames

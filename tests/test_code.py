@@ -20,6 +20,8 @@ setdefault split splitlines startswith strip update upper values zfill bit_lengt
 BARRED = set("""register mro elements open input law version_info with_traceback add_note attrgetter breakpoint compile
 copyright credits delattr dir eval exec exit gc getattr globals hasattr help id importlib license locals methodcaller os
 quit setattr type vars sys typing enum namedtuple dataclass""".split())
+# What may be imported from the library.
+LIBRARY = {"heapq": {"heappush", "heappop"}}
 DUNDERS = {"__init__", "__eq__", "__len__", "__repr__", "__str__"}
 STATEMENTS = (ast.Assign, ast.AugAssign, ast.If, ast.While, ast.For, ast.Return, ast.Break, ast.Continue, ast.Pass,
               ast.Raise, ast.Assert, ast.Delete, ast.Try, ast.Expr, ast.FunctionDef, ast.ClassDef, ast.ImportFrom)
@@ -42,6 +44,14 @@ INTERFACE = {
               "played": "cls, words, moves"},
     "tables": {"alike": "one, other, *, most=2000", "alike_without_heirs": "one, other, *, most=2000",
                "table": "one, other, *, most=2000", "is_table": "one, other, thing"},
+    "aparts": {"apart": "one, other, *, most=2000", "is_apart": "one, other, thing",
+               "fewest_moves": "one, other, *, most=2000"},
+    "tellings": {"telling": "one, other, *, most=2000", "is_telling": "one, other, thing",
+                 "parts": "program, name, cls"},
+    "exchange": {"exchanged": "program, name, cls, *, most=2000", "fewer_classes": "program, *, most=2000",
+                 "alike_names": "program, *, most=2000", "needless_methods": "program, name"},
+    "merging": {"come_to": "cls, *, most=2000", "waiting": "cls, *, most=2000", "groups": "cls, *, most=2000",
+                "idle_fields": "cls, *, most=2000", "is_merge": "cls, thing", "trimmed": "cls, *, most=2000"},
 }
 
 
@@ -84,6 +94,10 @@ class Files(unittest.TestCase):
             for node in imports(tree):
                 self.assertIsInstance(node, ast.ImportFrom)
                 self.assertIn(node, tree.body)
+                if node.module in LIBRARY:
+                    self.assertLessEqual({alias.name for alias in node.names}, LIBRARY[node.module])
+                    self.assertEqual({alias.asname for alias in node.names}, {None})
+                    continue
                 package, _, module = node.module.partition(".")
                 self.assertEqual((package, node.level), ("standsfor", 0))
                 for alias in node.names:

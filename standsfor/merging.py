@@ -24,7 +24,7 @@ class Judge:
         self._asked_for = {}
         self._new_frames = []
 
-    def is_closed(self):
+    def accepts(self):
         """Whether all that its moves ask for is in it, and no other frames."""
         # Then all that comes of the first standing is in it, too.
         if self._sides.first_state() not in self._pairs:
@@ -78,7 +78,7 @@ def is_merge(cls, thing):
     """Whether it is a closed merge of a plain class."""
     check_plain(cls)
     known = {standing: True for standing in standings(cls)}
-    return _has_form_of_merge(thing, known) and Judge(cls, thing).is_closed()
+    return _has_form_of_merge(thing, known) and Judge(cls, thing).accepts()
 
 
 def trimmed(cls, *, most=2000):

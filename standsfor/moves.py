@@ -1,6 +1,6 @@
 """The moves of a thing's surroundings, and the values that come in by them."""
 
-from standsfor.names import is_name
+from standsfor.names import is_name, is_names
 
 VALUES = (("none",), ("able",), ("unable",))
 
@@ -12,6 +12,13 @@ def is_move(thing, words):
     if thing[0] == "ask":
         return len(thing) == 4 and is_name(thing[1]) and _are_incoming(thing[2:], words)
     return thing[0] in ("give", "throw") and len(thing) == 2 and _are_incoming(thing[1:], words)
+
+
+def are_words(thing, needed):
+    """Whether it is a list or tuple of different words with all of these, with which a class can be played."""
+    if not isinstance(thing, (list, tuple)) or not is_names(tuple(thing), 0, len(thing)):
+        return False
+    return all([word in thing for word in needed])
 
 
 def incoming_values(words):

@@ -1,8 +1,7 @@
 """Plays: a thing of a plain class, and what its surroundings do with it, move by move."""
 
 from standsfor.errors import BadMove, BadWords, NothingDone
-from standsfor.moves import is_move
-from standsfor.names import is_names
+from standsfor.moves import are_words, is_move
 from standsfor.plain import words_of
 from standsfor.standings import first_standing
 from standsfor.within import Reading, after_answer, after_ask
@@ -12,7 +11,7 @@ class Play:
     """A thing of a plain class, the frames that wait, and the moves that were made."""
 
     def __init__(self, cls, words):
-        if not _are_words(words, words_of(cls)):
+        if not are_words(words, words_of(cls)):
             raise BadWords(words)
         self._reading = Reading(cls)
         self._words = {word: True for word in words}
@@ -77,10 +76,3 @@ def played(cls, words, moves):
     if not isinstance(moves, (list, tuple)):
         raise BadMove(moves)
     return [play.move(move) for move in moves]
-
-
-def _are_words(thing, needed):
-    """Whether it is a list or tuple of different words with all of these."""
-    if not isinstance(thing, (list, tuple)) or not is_names(tuple(thing), 0, len(thing)):
-        return False
-    return all([word in thing for word in needed])

@@ -60,7 +60,7 @@ class Rower:
 
     def _heirs(self):
         """The heirs of an open box, the last one the heir of all: all that it asks of itself is told."""
-        methods = [(self._reach, (("m", "a", "b"), self._reached()))]
+        methods = [(self._reach, (("m", "a", "b"), self._reach_block()))]
         for index, name in enumerate(self._asked):
             methods.append((name, (("a", "b"), _met(_letters("m", index)))))
         heirs = {}
@@ -71,7 +71,7 @@ class Rower:
             above = name
         return heirs
 
-    def _reached(self):
+    def _reach_block(self):
         """Asks for a method that the box itself has, also where an heir has one of its name."""
         things = (("name", "a"), ("name", "b"))
         return tuple([

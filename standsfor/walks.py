@@ -8,6 +8,17 @@ from standsfor.forms import form_of
 LEAVES = ("name", "field", "class", "params")
 
 
+def inner_parts(kind, part):
+    """The parts right within a part, as tuples (kind, part)."""
+    if kind in LEAVES:
+        return []
+    if kind in ("block", "function"):
+        return [("statement", statement) for statement in part]
+    if kind == "things":
+        return [("simple", thing) for thing in part]
+    return list(zip(form_of(kind, part), part[1:]))
+
+
 def parts_of(block):
     """The list of all parts of the block, those of functions too, as tuples (kind, part)."""
     found = []
@@ -15,7 +26,7 @@ def parts_of(block):
     while left:
         kind, part = left.pop()
         found.append((kind, part))
-        left.extend(_inner(kind, part))
+        left.extend(inner_parts(kind, part))
     return found
 
 
@@ -35,18 +46,7 @@ def with_other_classes(block, names):
         elif kind in LEAVES:
             done.append(names.get(part, part) if kind == "class" else part)
         else:
-            inner = _inner(kind, part)
+            inner = inner_parts(kind, part)
             left.append((kind, part, len(inner)))
             left.extend([(inner_kind, thing, None) for inner_kind, thing in inner[::-1]])
     return done[0]
-
-
-def _inner(kind, part):
-    """The parts right within a part."""
-    if kind in LEAVES:
-        return []
-    if kind in ("block", "function"):
-        return [("statement", statement) for statement in part]
-    if kind == "things":
-        return [("simple", thing) for thing in part]
-    return list(zip(form_of(kind, part), part[1:]))

@@ -180,3 +180,40 @@ class One:
             if kind == "wait":
                 asked_for.add(waiting)
         return asked_for == frames
+
+
+def fewest_to(cls, words, event, most):
+    """The fewest moves, at most so many, to this event, going breadth first; None if it takes more."""
+    reading = Reading(cls)
+    incoming = [("word", word) for word in words] + [("none",), ("able",), ("unable",)]
+    asks = [(method, (first, second)) for method in [*cls[3], "unknown"] for first in incoming for second in incoming]
+    answers = [(kind, value) for kind in ("give", "throw") for value in incoming]
+    states = {(first_standing(cls), ())}
+    for many in range(1, most + 1):
+        behind = set()
+        for standing, waiting in states:
+            comes = [(after_ask(reading, standing, *ask), waiting) for ask in asks]
+            if waiting:
+                comes += [(after_answer(reading, standing, waiting[-1], *answer), waiting[:-1]) for answer in answers]
+            for (told, now, frame), rest in comes:
+                if told == event:
+                    return many
+                behind.add((now, rest if frame is None else (*rest, frame)))
+        states = behind
+    return None
+
+
+def events_of(cls, method):
+    """All events between an ask of this method and its end, at its own depth."""
+    lists, waits, _ = least(cls, cls)
+    both = Both(cls, cls)
+    reading = both.readings[0]
+    found = set()
+    for begin, (standing, _) in lists:
+        found.update(after_ask(reading, standing, method, (first, second))[0]
+                     for first in both.incoming for second in both.incoming)
+        for frame, _, pair, _ in waits:
+            if frame[0][0][0] == method and pair == begin:
+                found.update(after_answer(reading, standing, frame, kind, value)[0]
+                             for kind in ("give", "throw") for value in both.incoming)
+    return found

@@ -26,7 +26,7 @@ DUNDERS = {"__init__", "__eq__", "__len__", "__repr__", "__str__"}
 STATEMENTS = (ast.Assign, ast.AugAssign, ast.If, ast.While, ast.For, ast.Return, ast.Break, ast.Continue, ast.Pass,
               ast.Raise, ast.Assert, ast.Delete, ast.Try, ast.Expr, ast.FunctionDef, ast.ClassDef, ast.ImportFrom)
 
-# What the interface lists, with the parameters of each, for what is built so far.
+# What the interface lists, with the parameters of each.
 INTERFACE = {
     "errors": {"StandError": {}, "BadProgram": {}, "BadName": {}, "BadNumber": {}, "TooLong": {}, "Ended": {},
                "NothingDone": {}, "NotPlain": {}, "BadWords": {}, "BadMove": {}, "BadMark": {}, "TooMany": {},
@@ -52,6 +52,14 @@ INTERFACE = {
                  "alike_names": "program, *, most=2000", "needless_methods": "program, name"},
     "merging": {"come_to": "cls, *, most=2000", "waiting": "cls, *, most=2000", "groups": "cls, *, most=2000",
                 "idle_fields": "cls, *, most=2000", "is_merge": "cls, thing", "trimmed": "cls, *, most=2000"},
+    "reach": {"ever": "cls, words, event, *, most=2000", "shown": "cls, method, *, most=2000",
+              "never_fails": "cls, method, *, most=2000"},
+    "texts": {"program_text": "program", "event_text": "event"},
+    "reading": {"read_program": "text"},
+    "desks": {"Desk": {"__init__": "self", "put": "self, name, program", "drop": "self, name",
+                       "exchange": "self, name, cls_name, cls", "lessen": "self, name", "undo": "self",
+                       "names": "self", "program": "self, name", "lines": "self, name", "trying": "self, action",
+                       "__eq__": "self, other"}},
 }
 
 

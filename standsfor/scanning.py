@@ -50,7 +50,7 @@ class Scan:
     def some_params(self):
         """A tuple of params, with a blank ahead of each."""
         found = []
-        while self._is_good and self.skips(" "):
+        while self.skips(" "):
             found.append(self.free_name())
         if len(found) > MOST_PARAMS:
             self._is_good = False
@@ -59,7 +59,7 @@ class Scan:
     def some_words(self):
         """A tuple of words, with a blank ahead of each."""
         found = []
-        while self._is_good and self.skips(" "):
+        while self.skips(" "):
             found.append(self._word())
         return tuple(found)
 
@@ -142,7 +142,7 @@ class Scan:
         if self.skips(")"):
             return ()
         found = [self._simple()]
-        while self._is_good and self.skips(", "):
+        while self.skips(", "):
             found.append(self._simple())
         self.need(")")
         if len(found) > MOST_THINGS:

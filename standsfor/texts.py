@@ -20,7 +20,7 @@ def program_text(program):
     for name in sorted(classes):
         writer.add_class(name, classes[name])
     writer.add_body(program.body)
-    return "".join([f"{line}\n" for line in writer.written])
+    return "".join([line + "\n" for line in writer.written])
 
 
 def event_text(event):
@@ -146,10 +146,9 @@ def _all_names(classes, body):
     """The names of all variables, fields, methods and classes of a program."""
     found = []
     blocks = [body]
-    for name, (parent, _, fields, methods) in classes.items():
+    for name, (_, _, fields, methods) in classes.items():
+        # Parents are among the classes, and have their names there.
         found.extend([name, *fields, *methods])
-        if parent is not None:
-            found.append(parent)
         for params, block in methods.values():
             found.extend(list(params))
             blocks.append(block)

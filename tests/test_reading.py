@@ -239,6 +239,10 @@ if not (not (not (x = y)))
 if (x = y and (x = y and (x = y and x = y)))
 if not ((x = y or not (x = y)))
 if (not ((x = y or x = y)) and x = y)
+if not (not (not ()))
+if (x = y and (x = y and ( and )))
+if ()
+if not ()
 if end = x
 if x = end
 while

@@ -162,6 +162,22 @@ class Many(unittest.TestCase):
             for mark in ("open", "closed"):
                 self.check(doubling(many, full, "b", mark), doubling(many, full, "c", mark), 2 ** (full + 1) - 1)
 
+    def test_what_waits_in_two_levels(self):
+        """What is far from the beginning of the one level was near to that of the other, and is known by then."""
+        fields = {"x": ("c", "d", "a", "b"), "y": ("a", "b")}
+        steps = [cond(same(f("x"), w(low)), (keep("x", w(high)), ret(NONE))) for low, high in ("ab", "bc", "cd", "da")]
+        methods = {"up": method("", *steps),
+                   "go": method("p", cond(same(f("x"), w("d")), (do(call(n("p"))), keep("y", B)))),
+                   "hold": method("p", keep("x", A), keep("y", A), do(call(n("p"))))}
+        for mark in ("open", "closed"):
+            made = []
+            for word in ("b", "c"):
+                end = cond(same(f("y"), B), (ret(w(word)),))
+                hold = (methods["hold"][0], (*methods["hold"][1], end))
+                made.append(cls({**methods, "hold": hold}, fields, mark=mark))
+            self.check(*made, 7)
+            self.assertEqual([move[0] for move in apart(*made)], ["ask"] * 5 + ["give"] * 2)
+
     def test_slow_search_agrees(self):
         one, other = doubling(1, 1, "b", "closed"), doubling(1, 1, "c", "closed")
         self.assertIsNone(naive.told_apart(one, other, 2))
@@ -230,6 +246,10 @@ class Judged(unittest.TestCase):
 
     def test_an_event_that_is_unlike_too_early(self):
         self.assertIs(self.judged(self.ROW * 2), False)
+        one, other = cls({"m": method("", ret(A))}), cls({"m": method("", ret(B))})
+        move = ("ask", "m", NONE, NONE)
+        for many in range(5):
+            self.assertIs(is_apart(one, other, [move] * many), many == 1)
         self.assertIs(self.judged(self.ROW + [("ask", "put", A, NONE)] + self.ROW), False)
 
     def test_things_that_are_no_moves(self):

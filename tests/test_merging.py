@@ -397,6 +397,15 @@ class Bounds(unittest.TestCase):
         for function in (groups, idle_fields):
             self.check(function, one, 25)
 
+    def test_what_comes_at_standings_that_only_a_merge_comes_to(self):
+        """The frame goes on from each standing that it comes to itself."""
+        behind = (cond(same(f("x"), A), (keep("x", w("c")), ret(NONE))), cond(same(f("x"), w("c")), (keep("x", w("d")),)))
+        one = cls({"up": method("", keep("x", B)), "m": method("p", cond(same(f("x"), B), (do(call(n("p"))), *behind)))},
+                  {"x": ("a", "b", "c", "d")})
+        self.assertEqual((come_to(one), len(waiting(one))), ([("a",), ("b",)], 1))
+        for function in (groups, idle_fields):
+            self.check(function, one, 16)
+
     def test_most_is_2000_unless_told(self):
         for many, told in ((11, True), (12, False)):
             calls = tuple(do(call(n("p"))) for _ in range(many))
@@ -473,6 +482,12 @@ class Judged(unittest.TestCase):
         self.assertIs(self.judged([], []), False)
         self.assertIs(is_merge(cls(), ([], [])), False)
         self.assertIs(is_merge(cls(), ([((), ())], [])), True)
+
+    def test_a_standing_with_which_a_frame_waits_is_left_out(self):
+        held = cls({"m": method("p", keep("x", B), last((do(call(n("p"))),), (keep("x", A),)))}, {"x": ("a", "b")})
+        frame = waiting(held)[0]
+        self.assertIs(is_merge(held, (self.PAIRS, [(frame, frame)])), True)
+        self.assertIs(is_merge(held, (self.PAIRS[:1], [(frame, frame)])), False)
 
     def test_frames_that_nothing_asks_for(self):
         inner = self.FRAME[0][0]

@@ -82,6 +82,17 @@ class Telling(Checked):
                     with self.subTest((first, second)):
                         self.check(first, second)
 
+    def test_functions_that_have_to_be_told_from_one_another(self):
+        calls = [do(call(n("p"))), do(call(n("q")))]
+        more = [let("r", call(n("p"))), do(call(n("q"))), do(call(n("r")))]
+        for block, names in ((calls, "pq"), (more, "pqr")):
+            made = [cls({"m": method("p q", *block, ret(n(name)))}) for name in names]
+            made += [cls({"m": method("p q", *block, ret(value))}) for value in (ME, NONE)]
+            for at, one in enumerate(made):
+                for other in made[:at]:
+                    for first, second in both_marks(one, other):
+                        self.check(first, second)
+
     def test_asks_of_itself(self):
         asking = [{"m": method("p", do(ask(ME, "k")))}, {"m": method("p", do(ask(ME, "j")))},
                   {"m": method("p", do(ask(ME, "m", n("p")))), "j": method("")},

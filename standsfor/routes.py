@@ -28,7 +28,7 @@ class Start:
         # it, and the way through it.
         self.users = {}
         # For a level, the waits that go on in it.
-        self.waits = []
+        self.inner = []
 
 
 class Routes:
@@ -83,7 +83,7 @@ class Routes:
         if wait not in self._waits:
             made = Start(wait)
             self._waits[wait] = made
-            self._level(wait[-1]).waits.append(made)
+            self._level(wait[-1]).inner.append(made)
             self._new_waits.append(made)
         return self._waits[wait]
 
@@ -104,7 +104,7 @@ class Routes:
         if start.wait is None:
             if end != GOAL:
                 self._take(start, start, end, self._sides.asked(end))
-            for wait in list(start.waits):
+            for wait in list(start.inner):
                 self._go_on(wait, start, end)
 
     def _catch_up(self, wait):

@@ -217,3 +217,28 @@ def events_of(cls, method):
                 found.update(after_answer(reading, standing, frame, kind, value)[0]
                              for kind in ("give", "throw") for value in both.incoming)
     return found
+
+
+def fewest_apart(one, other, most, states):
+    """The fewest moves that tell them apart, going breadth first over pairs and what waits.
+
+    None if it takes more moves than most, "many" if it takes more than so many states.
+    """
+    both = Both(one, other)
+    new = {(both.first, ())}
+    seen = set(new)
+    for many in range(1, most + 1):
+        behind = set()
+        for pair, waiting in new:
+            comes = [(come, waiting) for come in both.asks(pair)]
+            if waiting:
+                comes += [(come, waiting[:-1]) for come in both.answers(waiting[-1], pair)]
+            for (kind, now, frames), rest in comes:
+                if kind == "unlike":
+                    return many
+                behind.add((now, (*rest, frames) if kind == "wait" else rest))
+        new = behind - seen
+        seen |= new
+        if len(seen) > states:
+            return "many"
+    return None

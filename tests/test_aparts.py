@@ -5,6 +5,7 @@ import unittest
 
 import naive
 from counters import doubling, moves_of_doubling, nested, plain_counter
+from machines import MachineMaker
 from plainmaker import PlainMaker
 from shorthand import (ME, NONE, ask, attempt, body, call, cls, cond, deep, do, f, keep, let, method, n, ret, same,
                        say, throw, w)
@@ -12,6 +13,7 @@ from standsfor.aparts import apart, fewest_moves, is_apart
 from standsfor.errors import BadMark, BadNumber, NotPlain, TooMany
 from standsfor.plain import words_of
 from standsfor.plays import Play, played
+from standsfor.reach import ever
 from standsfor.tables import alike
 from test_general import ODD_VALUES, limit_of_calls
 
@@ -161,6 +163,25 @@ class Many(unittest.TestCase):
         for many, full in ((1, 2), (1, 3), (2, 6), (2, 9), (2, 11)):
             for mark in ("open", "closed"):
                 self.check(doubling(many, full, "b", mark), doubling(many, full, "c", mark), 2 ** (full + 1) - 1)
+
+    def test_machines(self):
+        """What a slow search by breadth finds; ever finds the event by which they are told apart, too."""
+        seen = {}
+        for seed in range(400):
+            one, other = MachineMaker(seed).classes("a", "b")
+            try:
+                fewest = fewest_moves(one, other)
+            except TooMany:
+                continue
+            row = ever(one, list("abcd"), ("gives", A))
+            self.assertEqual(fewest, None if row is None else len(row))
+            if fewest is not None:
+                self.assertEqual(len(apart(one, other)), fewest)
+                self.assertIs(is_apart(one, other, apart(one, other)), True)
+                if fewest < 9:
+                    self.assertIn(naive.fewest_apart(one, other, fewest, 3000), (fewest, "many"))
+            seen[fewest] = seen.get(fewest, 0) + 1
+        self.assertGreater(min(seen[fewest] for fewest in range(3, 9)), 2, seen)
 
     def test_what_waits_in_two_levels(self):
         """What is far from the beginning of the one level was near to that of the other, and is known by then."""

@@ -6,7 +6,7 @@ from standsfor.growth import grown
 from standsfor.plain import words_of
 from standsfor.plays import Play
 from standsfor.routes import Routes
-from standsfor.sides import Sides
+from standsfor.sides import Shelf, Sides
 
 
 def apart(one, other, *, most=2000):
@@ -43,7 +43,7 @@ def routes_apart(one, other, most):
     """The routes to what tells the classes apart, None if they are alike; errors as those of alike."""
     check_of_one_mark(one, other)
     check_most(most)
-    sides = Sides(one, other)
+    sides = Sides(one, other, Shelf())
     return Routes(sides) if grown(sides, most).has_goal else None
 
 

@@ -3,10 +3,11 @@
 from standsfor.aparts import apart
 from standsfor.checks import check_most
 from standsfor.errors import BadName, NotAlike
+from standsfor.growth import grown
 from standsfor.names import is_name
 from standsfor.plain import is_plain
 from standsfor.programs import Program, with_class
-from standsfor.tables import alike
+from standsfor.sides import Shelf, Sides
 from standsfor.walks import parts_of, with_other_classes
 
 
@@ -24,12 +25,14 @@ def alike_names(program, *, most=2000):
     check_most(most)
     classes = program.classes
     names = [name for name in sorted(classes) if is_plain(classes[name])]
+    shelf = Shelf()
     # All are asked for, as any of them may be too many.
     told = {}
     for index, one in enumerate(names):
         for other in names[index + 1:]:
             if classes[one][1] == classes[other][1]:
-                told[(one, other)] = alike(classes[one], classes[other], most=most)
+                growth = grown(Sides(classes[one], classes[other], shelf), most)
+                told[(one, other)] = not growth.has_goal
     found = []
     for index, name in enumerate(names):
         if not any([told.get((earlier, name), False) for earlier in names[:index]]):

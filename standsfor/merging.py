@@ -5,7 +5,7 @@ from standsfor.checks import check_most, check_plain
 from standsfor.growth import grown
 from standsfor.ones import Closure, Ones
 from standsfor.plain import words_of
-from standsfor.sides import Sides
+from standsfor.sides import Shelf, Sides
 from standsfor.solids import is_solid
 from standsfor.standings import standings
 
@@ -17,7 +17,7 @@ class Judge:
     """Looks whether a merge is closed."""
 
     def __init__(self, cls, merge):
-        self._sides = Sides(cls, cls)
+        self._sides = Sides(cls, cls, Shelf())
         side = self._sides.one
         self._pairs = {pair: True for pair in merge[0]}
         self._frames = {(side.number_of(one), side.number_of(other)): True for one, other in merge[1]}

@@ -18,6 +18,7 @@ class Side:
     """
 
     def __init__(self, cls, asks, answers):
+        self._cls = cls
         self.first = first_standing(cls)
         self.reading = Reading(cls)
         # The frames by their numbers.
@@ -27,6 +28,10 @@ class Side:
         self._answers = answers
         self._asked = {}
         self._answered = {}
+
+    def is_of(self, cls, asks, answers):
+        """Whether it is that of this class with these moves."""
+        return self._asks == asks and self._answers == answers and self._cls == cls
 
     def number_of(self, frame):
         """The number of the frame."""
@@ -60,18 +65,34 @@ class Side:
         return (event, standing, None if frame is None else self.number_of(frame))
 
 
+class Shelf:
+    """Where sides are kept, as a class may stand beside many others."""
+
+    def __init__(self):
+        self._kept = []
+
+    def side(self, cls, asks, answers):
+        """The side of the class with these moves."""
+        for kept in self._kept:
+            if kept.is_of(cls, asks, answers):
+                return kept
+        made = Side(cls, asks, answers)
+        self._kept.append(made)
+        return made
+
+
 class Sides:
     """Two classes side by side; unlike events are looked for, and nothing goes on behind them.
 
     Their states are pairs, and their waits tuples (frame, frame, pair).
     """
 
-    def __init__(self, one, other):
+    def __init__(self, one, other, shelf):
         words = sorted(set(words_of(one) + words_of(other)))
         self._asks = all_asks([one, other], words)
         self._answers = all_answers(words)
-        self.one = Side(one, self._asks, self._answers)
-        self.other = self.one if one == other else Side(other, self._asks, self._answers)
+        self.one = shelf.side(one, self._asks, self._answers)
+        self.other = shelf.side(other, self._asks, self._answers)
         self._asked = {}
 
     def first_state(self):

@@ -3,7 +3,7 @@
 from standsfor.checks import check_most, check_of_one_mark, check_plain
 from standsfor.errors import TooMany
 from standsfor.growth import Growth, grown
-from standsfor.sides import Sides
+from standsfor.sides import Shelf, Sides
 from standsfor.solids import is_solid
 from standsfor.standings import standings
 
@@ -15,7 +15,7 @@ def alike(one, other, *, most=2000):
     """Whether either of two plain classes of one mark can stand for the other in every program."""
     check_of_one_mark(one, other)
     check_most(most)
-    return not grown(Sides(one, other), most).has_goal
+    return not grown(Sides(one, other, Shelf()), most).has_goal
 
 
 def alike_without_heirs(one, other, *, most=2000):
@@ -23,14 +23,14 @@ def alike_without_heirs(one, other, *, most=2000):
     check_plain(one)
     check_plain(other)
     check_most(most)
-    return not grown(Sides(_closed(one), _closed(other)), most).has_goal
+    return not grown(Sides(_closed(one), _closed(other), Shelf()), most).has_goal
 
 
 def table(one, other, *, most=2000):
     """The least closed table for two plain classes of one mark; None if they are not alike."""
     check_of_one_mark(one, other)
     check_most(most)
-    sides = Sides(one, other)
+    sides = Sides(one, other, Shelf())
     growth = grown(sides, most)
     if growth.has_goal:
         return None
@@ -47,7 +47,7 @@ def is_table(one, other, thing):
     check_of_one_mark(one, other)
     if not _has_form_of_table(thing, standings(one), standings(other)):
         return False
-    sides = Sides(one, other)
+    sides = Sides(one, other, Shelf())
     levels = {pair: {held: True for held in pairs} for pair, pairs in thing[0]}
     waits = {_numbered(wait, sides): True for wait in thing[1]}
     if len(levels) != len(thing[0]) or sides.first_state() not in levels:

@@ -41,7 +41,7 @@ class Whole(unittest.TestCase):
 
     def test_classes_that_are_alike_and_others(self):
         seen = {True: 0, False: 0}
-        for _, one, other in self.made(range(20000, 20120)):
+        for _, one, other in self.made(range(20000, 20080)):
             told = alike(one, other, most=MOST)
             seen[told] += 1
             program = Program({"box": one, "other": other}, (("do", ("new", "box")),))
@@ -51,7 +51,7 @@ class Whole(unittest.TestCase):
                 self.check_unlike(one, other, program)
             self.assertIs(len(alike_names(program, most=MOST)) == 1, told)
             self.assertIs(fewer_classes(program, most=MOST) == program, not told)
-        self.assertGreater(min(seen.values()), 5, seen)
+        self.assertGreater(min(seen.values()), 3, seen)
 
     def check_alike(self, one, other, program):
         self.assertIs(is_table(one, other, table(one, other, most=MOST)), True)
@@ -128,7 +128,7 @@ class Whole(unittest.TestCase):
         return (*one[:2], fields, one[3])
 
     def test_what_is_shown_comes(self):
-        for maker, one, _ in self.made(range(23000, 23040)):
+        for maker, one, _ in self.made(range(23000, 23025)):
             words = words_of(one)
             moves, waits, asked = [], 0, []
             play = Play(one, words)
